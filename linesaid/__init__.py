@@ -1,0 +1,1 @@
+"""Linesaid: what is said of lines, and what it forces."""

@@ -1,7 +1,10 @@
-"""What several tests use: plain fractions to compare with, and numbers and points that are the same in every run."""
+"""What several tests use: plain fractions to compare with, numbers and points that are the same in every run, things
+that are no names, and books."""
 
 from fractions import Fraction
 from math import gcd
+
+from linesaid.book import Book
 
 
 def fraction(one):
@@ -59,3 +62,37 @@ class Numbers:
 
     def point(self, most):
         return (self.share(most), self.share(most))
+
+    def picked(self, things):
+        return things[self.below(len(things))]
+
+    def mixed(self, things):
+        left = list(things)
+        return [left.pop(self.below(len(left))) for number in range(len(left))]
+
+
+# Things of all kinds that may stand where a name is asked for; none of them is a name.
+ANY_THINGS = (
+    0, 1, -1, 7, 10 ** 60 - 1, True, False, None, "", " ", "A", "Ab", "aB", "a1", "1", "a b", " a", "a ", "a\n", "a\t",
+    "a.b", "a_b", "-", "~", "abcdefghi", [], ["a"], ["a", "b", "c"], (), ("a",), ("a", "b", "c"),
+    [None, [True, ("a",)]], [[[[[[[["a"]]]]]]]], (((((((("a",),),),),),),),),
+)
+
+
+def book_of(lines, aparts=(), others=None):
+    """A book by texts such as "a b c"; others by a list of such texts, or none where it is None."""
+    book = Book()
+    for row in lines:
+        book.say_line(*row.split())
+    for row in aparts:
+        book.say_apart(*row.split())
+    if others is not None:
+        book.say_others([tuple(row.split()) for row in others])
+    return book
+
+
+# Nine points of two lines, a b c and d e f, and the meets of their cross lines; that g h i lie on one line is Pappus.
+PAPPUS = ("a b c", "d e f", "a e g", "b d g", "a f h", "c d h", "b f i", "c e i")
+
+# Two threes in sight of o, a b c and d e f, and the meets of their sides; that p q r lie on one line is Desargues.
+DESARGUES = ("a d o", "b e o", "c f o", "a b p", "d e p", "b c q", "e f q", "a c r", "d f r")

@@ -1,7 +1,7 @@
 import inspect
 import unittest
 
-from linesaid import points, shares
+from linesaid import book, exchanges, points, shares, sums, triples
 
 ARGUMENTS = (
     (shares.share, ["top", "bottom"]),
@@ -12,6 +12,25 @@ ARGUMENTS = (
     (points.span, ["one", "other", "third"]),
     (points.between, ["one", "other", "t"]),
     (points.crossing, ["one", "other", "third", "fourth"]),
+    (triples.is_name, ["thing"]),
+    (triples.triple, ["A", "B", "C"]),
+    (triples.turn, ["A", "B", "C"]),
+    (triples.all_triples, ["names"]),
+    (book.Book, []),
+    (book.Book().say_line, ["A", "B", "C"]),
+    (book.Book().say_apart, ["A", "B", "C"]),
+    (book.Book().say_meet, ["P", "A", "B", "C", "D"]),
+    (book.Book().say_others, ["but"]),
+    (book.Book().names, []),
+    (book.Book().lines, []),
+    (book.Book().aparts, []),
+    (exchanges.rests_on, ["exchange"]),
+    (exchanges.needs, ["exchange"]),
+    (exchanges.vector, ["exchange"]),
+    (exchanges.plain, ["exchange"]),
+    (exchanges.exchanges, ["book"]),
+    (exchanges.targets, ["book", "claim"]),
+    (sums.reach, ["vectors", "target"]),
 )
 
 

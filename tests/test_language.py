@@ -27,6 +27,10 @@ WORDS_NOWHERE = """
     NamedTuple TypedDict TYPE_CHECKING abstractmethod
 """.split()
 
+# What is not kept but walked at once, and the calls within which it may stand.
+WALKED = "zip enumerate reversed range items keys values".split()
+WALKERS = "list tuple dict sorted sum any all enumerate zip min max".split()
+
 NODES = """
     Module Expr ImportFrom alias FunctionDef ClassDef arguments arg Lambda Return Assign AugAssign If While For Break
     Continue Pass Raise Try ExceptHandler Constant Name Attribute Subscript Slice Call keyword List Tuple Dict
@@ -128,6 +132,53 @@ class LanguageTest(unittest.TestCase):
             if isinstance(node, (ast.FunctionDef, ast.ClassDef)):
                 self.assertFalse(node.name.startswith("_") and node.name not in TWO_UNDERSCORES, where)
 
+    def test_no_local_is_called_like_an_import_or_a_class(self):
+        for path in files():
+            tree = ast.parse(path.read_text())
+            taken = [node.name for node in tree.body if isinstance(node, ast.ClassDef)]
+            for node in tree.body:
+                if isinstance(node, ast.ImportFrom):
+                    taken.extend(name.asname or name.name for name in node.names)
+            for node in ast.walk(tree):
+                if isinstance(node, ast.arg):
+                    self.assertNotIn(node.arg, taken, path.name)
+                if isinstance(node, ast.Name) and isinstance(node.ctx, ast.Store):
+                    self.assertNotIn(node.id, taken, path.name)
+
+    def test_no_name_is_a_method_and_a_value(self):
+        methods = set()
+        values = set()
+        for where, node in self.walk():
+            if isinstance(node, ast.ClassDef):
+                methods.update(part.name for part in node.body if isinstance(part, ast.FunctionDef))
+            if isinstance(node, ast.Attribute) and isinstance(node.ctx, ast.Store):
+                values.add(node.attr)
+        self.assertEqual(methods & values, set())
+
+    def test_what_is_walked_on_the_spot(self):
+        kept = []
+        for path in files():
+            tree = ast.parse(path.read_text())
+            walked = set()
+            for node in ast.walk(tree):
+                if isinstance(node, (ast.For, ast.comprehension)):
+                    walked.add(node.iter)
+                if isinstance(node, ast.Call) and isinstance(node.func, ast.Name) and node.func.id in WALKERS:
+                    walked.update(node.args)
+            for node in ast.walk(tree):
+                if isinstance(node, ast.Call) and node not in walked:
+                    name = getattr(node.func, "id", None) or getattr(node.func, "attr", None)
+                    if name in WALKED:
+                        kept.append(f"{path.name}:{node.lineno} {name}")
+        self.assertEqual(kept, [])
+
+    def test_sets(self):
+        for path in files():
+            for number, row in enumerate(path.read_text().split("\n"), start=1):
+                for found in re.finditer(r"\b(?:frozen)?set\(", row):
+                    ahead = row[:found.start()]
+                    self.assertRegex(ahead, r"(sorted\(|len\(| in |== |!= |[-&|^] )$", f"{path.name}:{number}")
+
     def test_attributes(self):
         others = methods_of_python() - set(OWN_METHODS)
         for where, node in self.walk():
@@ -145,6 +196,7 @@ class LanguageTest(unittest.TestCase):
         for where, node in self.walk():
             if isinstance(node, ast.Assign):
                 self.assertEqual(len(node.targets), 1, where)
+                self.assertNotIsInstance(node.targets[0], (ast.Tuple, ast.List), where)
             if isinstance(node, (ast.For, ast.While)):
                 self.assertEqual(node.orelse, [], where)
             if isinstance(node, ast.Try):

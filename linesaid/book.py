@@ -79,3 +79,13 @@ def check_unlike_names(things):
             raise NoName("a name is a text of one to eight small letters")
     if len(set(things)) < len(things):
         raise NoName("two of the names are alike")
+
+
+def claim_in(book, A, B, C):
+    """The triple of three unlike names of the book."""
+    names = book.names()
+    for thing in (A, B, C):
+        if thing not in names:
+            raise NoName("the book has no such name")
+    check_unlike_names([A, B, C])
+    return triple(A, B, C)

@@ -31,18 +31,23 @@ def plain(exchange):
 
 
 def exchanges(book):
-    names = book.names()
-    aparts = aparts_of(book)
-    found = []
-    for line in book.lines():
-        found.extend([one for one in resting_on(line, names) if all_among(needs(one), aparts)])
-    return sorted(found)
+    return exchanges_on(book, book.lines())
 
 
 def targets(book, claim):
     aparts = aparts_of(book)
     resting = resting_on(claim, book.names())
     return [one for one in resting if all_among(needs(one) + [far_triple(one)], aparts)]
+
+
+def exchanges_on(book, triples):
+    """All plain exchanges that rest on one of these triples, and whose needs are apart in the book; in order."""
+    names = book.names()
+    aparts = aparts_of(book)
+    found = []
+    for one in triples:
+        found.extend([each for each in resting_on(one, names) if all_among(needs(each), aparts)])
+    return sorted(found)
 
 
 def spans_of(exchange):

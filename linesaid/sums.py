@@ -9,19 +9,36 @@ from linesaid.shares import ZERO, over, plus, share, times
 
 
 def reach(vectors, target):
-    ladder = ladder_of(vectors)
+    return reach_by(ladder_of(vectors), len(vectors), target)
+
+
+def reach_by(ladder, many, target):
+    """As reach tells it, by the ladder of so many vectors."""
     left = dict(target)
-    for place, rung in enumerate(ladder):
-        pivot = rung[0]
-        step = rung[1][pivot]
-        if left.get(pivot, 0) % step != 0:
-            return ("weights", weights_by(ladder[:place], pivot, share(1, step)))
-        lessen(left, rung)
+    place = follow(ladder, left)
+    if place < len(ladder):
+        pivot = ladder[place][0]
+        return ("weights", weights_by(ladder[:place], pivot, share(1, ladder[place][1][pivot])))
     beyond = keys_of(left)
     if beyond:
         # By this weight what is left comes to a half.
         return ("weights", weights_by(ladder, beyond[0], share(1, 2 * left[beyond[0]])))
-    return ("sum", [-left.get(number, 0) for number in range(len(vectors))])
+    return ("sum", [-left.get(number, 0) for number in range(many)])
+
+
+def is_reached(ladder, target):
+    left = dict(target)
+    return follow(ladder, left) == len(ladder) and not keys_of(left)
+
+
+def follow(ladder, left):
+    """Lessens what is left from rung to rung; tells the place of the first rung that doesn't fit, or the end."""
+    for place, rung in enumerate(ladder):
+        pivot = rung[0]
+        if left.get(pivot, 0) % rung[1][pivot] != 0:
+            return place
+        lessen(left, rung)
+    return len(ladder)
 
 
 def weights_by(ladder, key, weight):

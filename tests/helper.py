@@ -1,8 +1,10 @@
 """What several tests use: plain fractions to compare with, numbers and points that are the same in every run, things
-that are no names, and books."""
+that are no names, books, and what the document says of exchanges and weights, told a second time without the program."""
 
+import functools
+import itertools
 from fractions import Fraction
-from math import gcd
+from math import gcd, lcm
 
 from linesaid.book import Book
 
@@ -96,3 +98,88 @@ PAPPUS = ("a b c", "d e f", "a e g", "b d g", "a f h", "c d h", "b f i", "c e i"
 
 # Two threes in sight of o, a b c and d e f, and the meets of their sides; that p q r lie on one line is Desargues.
 DESARGUES = ("a d o", "b e o", "c f o", "a b p", "d e p", "b c q", "e f q", "a c r", "d f r")
+
+# Six of the seven lines of the seven points of which any two have a third on their line; c e f is the seventh one. No
+# drawing with fractions has all seven.
+FANO = ("a b c", "a d e", "a f g", "b d f", "b e g", "c d g")
+
+# All of a to h lie on one line with one another, but by and by: each line has two names with those ahead in common.
+CHAIN = ("a b c", "a b d", "c d e", "a e f", "c f g", "e g h")
+
+
+def chain_book():
+    """x and y stand apart from the line of a to h; of a to h nothing but the CHAIN is said."""
+    book = book_of(CHAIN, [name + " x y" for name in "abcdefgh"])
+    book.say_others(list(itertools.combinations("abcdefgh", 3)))
+    return book
+
+
+def mixed_book(numbers, many, lines, gone):
+    """A book of so many names and lines, with so many triples of which nothing is said."""
+    threes = numbers.mixed(itertools.combinations("abcdefghij"[:many], 3))
+    rows = [" ".join(row) for row in threes]
+    return book_of(rows[:lines], rows[lines:lines + 4], rows[lines + 4:lines + 4 + gone])
+
+
+def rows_of(book):
+    return (book.names(), book.lines(), book.aparts())
+
+
+def in_order(*names):
+    return tuple(sorted(names))
+
+
+def plain_exchanges(names):
+    return [one for found in by_triples(in_order(*names)).values() for one in found]
+
+
+@functools.lru_cache(maxsize=None)
+def by_triples(names):
+    """All plain exchanges of these names by the triple on which they rest, in order."""
+    found = {row: [] for row in itertools.combinations(names, 3)}
+    for one in itertools.permutations(names, 5):
+        if one[1] < one[2] and one[3] < one[4]:
+            found[in_order(*one[:3])].append(one)
+    return found
+
+
+def expected_needs(exchange):
+    a, b, c, d, e = exchange
+    return [in_order(a, b, d), in_order(a, c, e), in_order(a, b, e), in_order(a, c, d)]
+
+
+def is_turned(three):
+    one, other, third = three
+    return [one > other, one > third, other > third].count(True) % 2 == 1
+
+
+def expected_vector(exchange):
+    a, b, c, d, e = exchange
+    found = dict(zip(expected_needs(exchange), (1, 1, -1, -1)))
+    if [is_turned(three) for three in ((a, b, d), (a, c, e), (a, b, e), (a, c, d))].count(True) % 2 == 1:
+        found[()] = 1
+    return found
+
+
+def expected_exchanges(book, more=()):
+    """The exchanges that rest on the book's lines, and on these triples more."""
+    lines, aparts = {*book.lines(), *more}, set(book.aparts())
+    found = [one for row, more in by_triples(in_order(*book.names())).items() if row in lines for one in more]
+    return sorted(one for one in found if aparts.issuperset(expected_needs(one)))
+
+
+def expected_targets(book, claim):
+    aparts = set(book.aparts())
+    found = by_triples(in_order(*book.names())).get(claim, [])
+    return [one for one in found if {*expected_needs(one), in_order(one[0], one[3], one[4])} <= aparts]
+
+
+def weights_hold(vectors, target, weights):
+    """Whether by the weights each vector comes to a whole number, so too () with 2 alone, but not the target."""
+    whole = lcm(*[bottom for top, bottom in weights.values()])
+    parts = {key: top * whole // bottom for key, (top, bottom) in weights.items()}
+
+    def comes_whole(one):
+        return sum(number * parts.get(key, 0) for key, number in one.items()) % whole == 0
+
+    return all(comes_whole(one) for one in [*vectors, {(): 2}]) and not comes_whole(target)

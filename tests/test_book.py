@@ -2,15 +2,11 @@ import copy
 import itertools
 import unittest
 
-from helper import ANY_THINGS, Numbers, book_of
+from helper import ANY_THINGS, Numbers, book_of, rows_of
 from linesaid.book import Book
 from linesaid.errors import NoName, NoRow, SaidError, TooMany
 
 TEN = list("abcdefghij")
-
-
-def rows_of(book):
-    return (book.names(), book.lines(), book.aparts())
 
 
 def full_of_names():

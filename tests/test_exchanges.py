@@ -3,7 +3,10 @@ import itertools
 import unittest
 from fractions import Fraction
 
-from helper import DESARGUES, PAPPUS, Numbers, book_of, fraction
+from helper import (
+    DESARGUES, PAPPUS, Numbers, book_of, expected_exchanges, expected_needs, expected_targets, fraction, in_order,
+    mixed_book,
+)
 from linesaid.book import Book
 from linesaid.exchanges import exchanges, needs, plain, rests_on, targets, vector
 from linesaid.points import between, span
@@ -16,40 +19,8 @@ def all_orders():
     return [told for five in FIVES for told in itertools.permutations(five)]
 
 
-def in_order(*names):
-    return tuple(sorted(names))
-
-
 def other_signs(one):
     return {key: number if key == () else -number for key, number in one.items()}
-
-
-def plain_exchanges(names):
-    found = itertools.permutations(sorted(names), 5)
-    return [one for one in found if one[1] < one[2] and one[3] < one[4]]
-
-
-def expected_exchanges(book):
-    lines, aparts = set(book.lines()), set(book.aparts())
-    found = plain_exchanges(book.names())
-    return [one for one in found if in_order(*one[:3]) in lines and set(expected_needs(one)) <= aparts]
-
-
-def expected_targets(book, claim):
-    aparts = set(book.aparts())
-    found = [one for one in plain_exchanges(book.names()) if in_order(*one[:3]) == claim]
-    return [one for one in found if {*expected_needs(one), in_order(one[0], one[3], one[4])} <= aparts]
-
-
-def expected_needs(exchange):
-    a, b, c, d, e = exchange
-    return [in_order(a, b, d), in_order(a, c, e), in_order(a, b, e), in_order(a, c, d)]
-
-
-def mixed_book(numbers, many, lines, gone):
-    threes = numbers.mixed(itertools.combinations("abcdefghij"[:many], 3))
-    rows = [" ".join(row) for row in threes]
-    return book_of(rows[:lines], rows[lines:lines + 4], rows[lines + 4:lines + 4 + gone])
 
 
 class RestsOnTest(unittest.TestCase):

@@ -1,7 +1,7 @@
 import inspect
 import unittest
 
-from linesaid import book, exchanges, points, shares, sums, triples
+from linesaid import book, drawings, exchanges, finding, grounds, points, shares, sums, triples
 
 ARGUMENTS = (
     (shares.share, ["top", "bottom"]),
@@ -31,6 +31,20 @@ ARGUMENTS = (
     (exchanges.exchanges, ["book"]),
     (exchanges.targets, ["book", "claim"]),
     (sums.reach, ["vectors", "target"]),
+    (grounds.stands, ["book", "ground"]),
+    (grounds.shortened, ["ground"]),
+    (grounds.joined, ["one", "other"]),
+    (grounds.renamed, ["ground", "by"]),
+    (finding.in_one_step, ["book", "A", "B", "C"]),
+    (finding.in_rounds, ["book", "A", "B", "C", "rounds"]),
+    (drawings.Drawing, []),
+    (drawings.Drawing().put, ["A", "x", "y"]),
+    (drawings.Drawing().on, ["A", "B", "C", "t"]),
+    (drawings.Drawing().meet, ["P", "A", "B", "C", "D"]),
+    (drawings.Drawing().place, ["A"]),
+    (drawings.Drawing().names, []),
+    (drawings.Drawing().built, []),
+    (drawings.Drawing().keeps, ["book"]),
 )
 
 

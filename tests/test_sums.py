@@ -1,9 +1,8 @@
 import copy
 import itertools
 import unittest
-from fractions import Fraction
 
-from helper import DESARGUES, PAPPUS, Numbers, book_of, fraction, is_share, is_whole
+from helper import DESARGUES, PAPPUS, Numbers, book_of, is_share, is_whole, weights_hold
 from linesaid.exchanges import exchanges, targets, vector
 from linesaid.sums import reach
 
@@ -19,10 +18,6 @@ def added(vectors, numbers):
         for key, number in one.items():
             total[key] = total.get(key, 0) + often * number
     return {key: number for key, number in total.items() if number != 0}
-
-
-def weighed(one, weights):
-    return sum((number * weights.get(key, Fraction(0)) for key, number in one.items()), Fraction(0))
 
 
 class SumsTest(unittest.TestCase):
@@ -57,10 +52,7 @@ class SumsTest(unittest.TestCase):
         for key, weight in weights.items():
             self.assertIs(type(key), tuple)
             self.assertTrue(is_share(weight))
-        exact = {key: fraction(weight) for key, weight in weights.items()}
-        for one in vectors + [{(): 2}]:
-            self.assertEqual(weighed(one, exact).denominator, 1, (one, weights))
-        self.assertNotEqual(weighed(target, exact).denominator, 1, (target, weights))
+        self.assertTrue(weights_hold(vectors, target, weights), (vectors, target, weights))
 
     def check_orders(self, vectors, target, kind):
         for mixed in itertools.permutations(vectors):
@@ -253,7 +245,6 @@ class MixedTest(SumsTest):
         vectors = [self.vector(numbers, long_keys, 3, 2) for place in range(6)]
         self.check(vectors, added(vectors, [1, -2, 0, 5, 1, 1]), "sum")
         self.check(vectors, self.vector(numbers, long_keys, 3, 2), "weights")
-
 
     def test_the_numbers_do_not_grow_beyond_all_bounds(self):
         numbers = Numbers(47)

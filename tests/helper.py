@@ -1,5 +1,6 @@
 """What several tests use: plain fractions to compare with, numbers and points that are the same in every run, things
-that are no names, books, and what the document says of exchanges and weights, told a second time without the program."""
+that are no names, books, and what the document says of exchanges, weights, plans and tries, told a second time without
+the program."""
 
 import functools
 import itertools
@@ -183,3 +184,92 @@ def weights_hold(vectors, target, weights):
         return sum(number * parts.get(key, 0) for key, number in one.items()) % whole == 0
 
     return all(comes_whole(one) for one in [*vectors, {(): 2}]) and not comes_whole(target)
+
+
+# A try that refutes is found late in these books, all other triples apart: the second try, the fourth try; in the last
+# one e i runs beside b c in every try, as numbers 7 and 13 are alike, so j is never drawn.
+SECOND_TRY = ("a b c", "b f h", "d g h")
+FOURTH_TRY = ("a b d", "a f g", "b c f", "b e h", "c d e")
+SIDE_BY_SIDE = ("b c d", "a c e", "f g h", "a b i", "e i j", "b c j")
+
+
+def second_try_book():
+    return book_of(SECOND_TRY, ["a b e"], [])
+
+
+def fourth_try_book():
+    return book_of(FOURTH_TRY, others=[])
+
+
+def side_by_side_book():
+    return book_of(SIDE_BY_SIDE, others=["c d j", "b d j"])
+
+
+def expected_plan(book):
+    names, lines, steps = set(book.names()), set(book.lines()), []
+    while names:
+        for name in sorted(names, reverse=True):
+            own = sorted(row for row in lines if name in row)
+            if len(own) < 3:
+                break
+        else:
+            return ("core", sorted(names))
+        steps.insert(0, (name, own))
+        names.remove(name)
+        lines.difference_update(own)
+    return ("plan", steps)
+
+
+def expected_numbers(k, many):
+    return [as_share(Fraction(((k + 2) * (j * j + 3 * j + 5)) % 23 - 11, 1 + (k + j) % 3)) for j in range(many)]
+
+
+def turned_by(one, other, third):
+    """The span of three points of plain fractions."""
+    return (other[0] - one[0]) * (third[1] - one[1]) - (other[1] - one[1]) * (third[0] - one[0])
+
+
+def met(one, other, third, fourth):
+    """Where two lines of plain fractions meet, by their equations; None where that is no one point."""
+    rows = []
+    for start, end in ((one, other), (third, fourth)):
+        along, up = end[1] - start[1], start[0] - end[0]
+        rows.append((along, up, along * start[0] + up * start[1]))
+    (a, b, c), (d, e, f) = rows
+    if a * e == b * d:
+        return None
+    return ((c * e - b * f) / (a * e - b * d), (a * f - c * d) / (a * e - b * d))
+
+
+def expected_points(book, numbers):
+    """The points of plain fractions of the book drawn by the numbers, or None."""
+    kind, steps = expected_plan(book)
+    left, points = [fraction(one) for one in numbers], {}
+    for name, lines in steps if kind == "plan" else ():
+        pairs = [[points[one] for one in row if one != name] for row in lines]
+        if len(left) < 2 - len(pairs):
+            return None
+        if len(pairs) == 0:
+            points[name] = (left.pop(0), left.pop(0))
+        elif len(pairs) == 1:
+            (start, end), t = pairs[0], left.pop(0)
+            points[name] = tuple(x + t * (y - x) for x, y in zip(start, end)) if start != end else None
+        else:
+            points[name] = met(*pairs[0], *pairs[1])
+        if points[name] is None:
+            return None
+    return points if kind == "plan" else None
+
+
+def points_keep(book, points):
+    spans = {row: turned_by(*[points[name] for name in row]) for row in book.lines() + book.aparts()}
+    return not any(spans[row] for row in book.lines()) and all(spans[row] for row in book.aparts())
+
+
+def expected_refutation(book, claim, tries):
+    """The number of the first try that refutes the claim, and its points as shares; (None, None) where none does."""
+    for k in range(tries):
+        points = expected_points(book, expected_numbers(k, 2 * len(book.names())))
+        if points is not None and points_keep(book, points) and turned_by(*[points[name] for name in claim]):
+            return k, {name: (as_share(x), as_share(y)) for name, (x, y) in points.items()}
+    return None, None

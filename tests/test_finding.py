@@ -237,7 +237,7 @@ class RoundsTest(FindingTest):
         self.assertLessEqual({("ground", 3, 0), ("ground", 3, 1), ("ground", 3, 2), ("open", 3, 3)}, kinds)
 
     def test_the_order_of_the_steps(self):
-        # Two of one round stand in the order of their claims, and those of an earlier round ahead, whatever their order.
+        # Two of one round stand in the order of their claims, those of an earlier round ahead, whatever their order.
         seen = set()
         for claim in itertools.combinations("abcdefgh", 3):
             told = in_rounds(chain_book(), *claim, 3)

@@ -1,7 +1,9 @@
 import inspect
 import unittest
 
-from linesaid import book, drawings, exchanges, finding, grounds, points, shares, sums, triples
+from linesaid import (
+    answers, book, desk, drawings, exchanges, finding, grounds, plans, points, shares, sums, texts, triples,
+)
 
 ARGUMENTS = (
     (shares.share, ["top", "bottom"]),
@@ -45,6 +47,16 @@ ARGUMENTS = (
     (drawings.Drawing().names, []),
     (drawings.Drawing().built, []),
     (drawings.Drawing().keeps, ["book"]),
+    (plans.plan, ["book"]),
+    (plans.drawn, ["book", "numbers"]),
+    (plans.numbers_of, ["k", "many"]),
+    (plans.refuted, ["book", "A", "B", "C", "tries"]),
+    (answers.settled, ["book", "A", "B", "C", "rounds", "tries"]),
+    (texts.show_ground, ["ground"]),
+    (texts.read_ground, ["text"]),
+    (texts.show_share, ["one"]),
+    (desk.Desk, []),
+    (desk.Desk().say, ["row"]),
 )
 
 

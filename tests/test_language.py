@@ -192,6 +192,12 @@ class LanguageTest(unittest.TestCase):
                 self.assertIn(type(node.value), (int, str, bool, type(None)), where)
                 self.assertFalse(isinstance(node.value, str) and "%" in node.value, where)
 
+    def test_exponents_are_written_out(self):
+        for where, node in self.walk():
+            if isinstance(node, ast.BinOp) and isinstance(node.op, ast.Pow):
+                self.assertIsInstance(node.right, ast.Constant, where)
+                self.assertIn(node.right.value, range(65), where)
+
     def test_statements(self):
         for where, node in self.walk():
             if isinstance(node, ast.Assign):
